@@ -41,10 +41,17 @@ func (r *Reader) Left() int {
 	return len(r.b) - r.at
 }
 
+// Fail makes e the error, where there was none.
+func (r *Reader) Fail(e api.Errno) {
+	if r.err == api.OK {
+		r.err = e
+	}
+}
+
 // Need makes e the error where ok does not hold.
 func (r *Reader) Need(ok bool, e api.Errno) {
-	if r.err == api.OK && !ok {
-		r.err = e
+	if !ok {
+		r.Fail(e)
 	}
 }
 
