@@ -5,7 +5,6 @@ import (
 	"testing"
 
 	"noria/api"
-	"noria/foot"
 	"noria/req"
 	"noria/schema"
 	"noria/serve"
@@ -19,7 +18,7 @@ func begun(t *testing.T) *day {
 	if e != api.OK {
 		t.Fatal(e)
 	}
-	d := &day{w: w, diary: newDiary(), feet: map[*look]foot.Foot{}}
+	d := &day{w: w, diary: newDiary()}
 	d.do(world.Act{Op: "enter"})
 	asked(t, d, "append 1;2")
 	asked(t, d, "append 3")

@@ -6,16 +6,19 @@ import (
 
 	"noria/api"
 	"noria/cursor"
+	"noria/foot"
 	"noria/fresh"
 	"noria/req"
 	"noria/world"
 )
 
-// look: an Open that was answered, and what its cursor has delivered.
+// look: an Open that was answered, what was there then, and what its cursor has delivered.
 type look struct {
 	asked   req.Req
+	there   foot.Foot
 	batches []cursor.Batch
 	ended   bool
+	judged  bool
 }
 
 // diary: what was asked and not answered by session, whose look a cursor is by number, and all looks in order.
