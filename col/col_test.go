@@ -57,6 +57,8 @@ func TestPutTellsJustSo(t *testing.T) {
 		{nil, val.Int, col.Plain, []byte{1, 0}}, {nil, val.Int, col.Runs, []byte{2, 0}}, {nil, val.Int, col.Steps, []byte{3, 0, 0}}, {nil, val.Bytes, col.Words, []byte{4, 0, 0, 0}},
 		{[]val.Val{number(-1), null, number(64)}, val.Int, col.Plain, []byte{1, 3, 0b101, 1, 128, 1}},
 		{[]val.Val{text("ab"), null, text("")}, val.Bytes, col.Plain, []byte{1, 3, 0b101, 2, 'a', 'b', 0}},
+		{[]val.Val{text("a"), text("bc"), text("def"), text("")}, val.Bytes, col.Plain, []byte{1, 4, 0b1111, 1, 'a', 2, 'b', 'c', 3, 'd', 'e', 'f', 0}},
+		{[]val.Val{text(strings.Repeat("x", 255))}, val.Bytes, col.Plain, append([]byte{1, 1, 1, 255, 1}, strings.Repeat("x", 255)...)},
 		{[]val.Val{null, spot(-1 + 2i)}, val.Point, col.Plain, []byte{1, 2, 0b10, 1, 4}},
 		{numbers(5, 5, -3), val.Int, col.Runs, append([]byte{2, 3, 7}, rle.Put([]uint64{10, 10, 5})...)},
 		{numbers(5, 6, 7), val.Int, col.Steps, append([]byte{3, 3, 7}, delta.Put([]int64{5, 6, 7})...)},

@@ -15,6 +15,13 @@ func TestReadsInOrder(t *testing.T) {
 	if r.Err() != api.OK || r.Read() != 5 || r.Left() != 1 {
 		t.Errorf("%v, %d, %d", r.Err(), r.Read(), r.Left())
 	}
+	if b := r.Byte(); b != 'c' || r.Err() != api.OK || r.Left() != 0 {
+		t.Errorf("%d, %v", b, r.Err())
+	}
+	all := read.New([]byte{'a', 'b'}, 0)
+	if s := all.Text(2); s != "ab" || all.Err() != api.OK || all.Left() != 0 {
+		t.Errorf("%q, %v", s, all.Err())
+	}
 }
 
 func TestTheFirstErrorStays(t *testing.T) {

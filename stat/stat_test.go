@@ -34,6 +34,8 @@ func cases() []case_ {
 		{[]val.Val{number(5), null, number(-3), number(64)}, val.Int, stat.Stat{Kind: val.Int, Rows: 4, Nulls: 1, Low: number(-3), High: number(64)}, []byte{1, 4, 1, 5, 128, 1}},
 		{[]val.Val{text("b"), text("aa"), text("")}, val.Bytes, stat.Stat{Kind: val.Bytes, Rows: 3, Low: text(""), High: text("b")}, []byte{2, 3, 0, 0, 1, 'b'}},
 		{[]val.Val{spot(1 - 2i), null, spot(-3 + 4i)}, val.Point, stat.Stat{Kind: val.Point, Rows: 3, Nulls: 1, Box: point.Box{Low: -3 - 2i, High: 1 + 4i}}, []byte{3, 3, 1, 5, 3, 2, 8}},
+		{[]val.Val{number(7)}, val.Int, stat.Stat{Kind: val.Int, Rows: 1, Low: number(7), High: number(7)}, []byte{1, 1, 0, 14, 14}},
+		{[]val.Val{null, spot(2 - 1i)}, val.Point, stat.Stat{Kind: val.Point, Rows: 2, Nulls: 1, Box: point.Box{Low: 2 - 1i, High: 2 - 1i}}, []byte{3, 2, 1, 4, 1, 4, 1}},
 		{[]val.Val{number(math.MinInt64), number(math.MaxInt64)}, val.Int, stat.Stat{Kind: val.Int, Rows: 2, Low: number(math.MinInt64), High: number(math.MaxInt64)}, nil},
 		{make([]val.Val, 64), val.Int, stat.Stat{Kind: val.Int, Rows: 64, Nulls: 64}, []byte{1, 64, 64}},
 	}
