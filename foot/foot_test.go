@@ -103,6 +103,26 @@ func wide(word int) foot.Foot {
 	return f
 }
 
+func TestTheLongestFoot(t *testing.T) {
+	f := wide(50)
+	b, _ := foot.Put(f)
+	for i := 0; len(b) < api.MaxPage; i = (i + 1) % 64 {
+		f.Groups[i].Chunks[1].Stat.High.S += "a"
+		longer, e := foot.Put(f)
+		if e != api.OK || len(longer) != len(b)+1 {
+			t.Fatalf("P1601: behind %d bytes Put is %d bytes, %v", len(b), len(longer), e)
+		}
+		b = longer
+	}
+	if got, e := foot.Get(b); !foot.Same(got, f) || e != api.OK {
+		t.Errorf("P1601: Get of the longest is %v", e)
+	}
+	f.Groups[9].Chunks[1].Stat.High.S += "a"
+	if b, e := foot.Put(f); len(b) != 0 || e != api.ErrLong {
+		t.Errorf("P1601: Put of one byte more is %d bytes, %v", len(b), e)
+	}
+}
+
 func TestPutRefuses(t *testing.T) {
 	for i, c := range []struct {
 		f    foot.Foot

@@ -73,6 +73,35 @@ func TestPages(t *testing.T) {
 	}
 }
 
+func TestTheLongestColumn(t *testing.T) {
+	rows := many(64, 127)
+	for size, want := range map[int]api.Errno{117: api.OK, 118: api.ErrLong} {
+		rows[63] = []val.Val{text(strings.Repeat("y", size))}
+		pages, _, e := group.Pages(word(), rows)
+		if e != want || e == api.OK && len(pages[0]) != api.MaxPage {
+			t.Errorf("P1501: Pages of a last word of %d bytes is %v", size, e)
+		}
+	}
+}
+
+func TestTheWidestGroup(t *testing.T) {
+	g := group.Group{Rows: 1}
+	for i := range 8 {
+		g.Chunks = append(g.Chunks, group.Chunk{Ext: ext.Ext{At: 1024 - i, N: 1024}, Stat: stat.Stat{Kind: val.Int, Rows: 1, Nulls: 1}})
+	}
+	b, e := group.Put(nil, g)
+	if e != api.OK {
+		t.Fatalf("P1501: Put is %v", e)
+	}
+	if got, n, e := group.Get(b, 0); !group.Same(got, g) || n != len(b) || e != api.OK {
+		t.Errorf("P1501: Get is %v, %d, %v", got, n, e)
+	}
+	one, _, _, e := group.Make(three(), rows()[:1], []ext.Ext{{At: 2, N: 20}})
+	if e != api.OK || one.Rows != 1 || group.Check(one, three(), 30) != api.OK {
+		t.Errorf("P1501: Make of one row is %v, %v", one, e)
+	}
+}
+
 func TestMake(t *testing.T) {
 	free := []ext.Ext{{At: 2, N: 1}, {At: 5, N: 2}, {At: 10, N: 4}}
 	g, pages, left, e := group.Make(three(), rows(), free)

@@ -83,6 +83,13 @@ func TestWriteAndRead(t *testing.T) {
 	if b, e := page.Read(d, 5, 3); !bytes.Equal(b, fill(150)) || e != api.OK {
 		t.Errorf("P1301: Read is %v, %v", b, e)
 	}
+	whole, _ := dev.New(4)
+	if e := page.Write(whole, 0, fill(240)); e != api.OK {
+		t.Errorf("P1301: Write of all blocks is %v", e)
+	}
+	if b, e := page.Read(whole, 0, 4); !bytes.Equal(b, fill(240)) || e != api.OK {
+		t.Errorf("P1301: Read of all blocks is %v, %v", b, e)
+	}
 	wrapped, _ := page.Wrap(fill(150))
 	if !bytes.Equal(d.Bytes()[5*64:], wrapped) {
 		t.Error("P1301: Write lays other bytes")

@@ -124,6 +124,10 @@ func TestPutAndGet(t *testing.T) {
 	if !schema.Same(s, three()) || n != len(want)-1 || e != api.OK {
 		t.Errorf("P1001: Get is %v, %d, %v", s, n, e)
 	}
+	widest, _ := schema.Put(nil, many(8))
+	if s, n, e := schema.Get(widest, 0); !schema.Same(s, many(8)) || n != len(widest) || e != api.OK {
+		t.Errorf("P1001: Get of the widest is %v, %d, %v", s, n, e)
+	}
 	for cut := 1; cut < len(want); cut++ {
 		if s, n, e := schema.Get(want[:cut], 1); len(s) != 0 || n != 0 || e != api.ErrShort {
 			t.Errorf("P1001: Get of %v is %v, %d, %v", want[:cut], s, n, e)

@@ -138,9 +138,22 @@ func TestFind(t *testing.T) {
 	five := lay(t, d, feet(5, 6), 5, 7)
 	check("a younger one", d, five, 6)
 	for name, spoil := range map[string]func(d *dev.Device){
-		"a torn super":            func(d *dev.Device) { d.Write(1, make([]byte, 64)) },
-		"a torn foot":             func(d *dev.Device) { d.Write(7, make([]byte, 64)) },
-		"a super in the other":    func(d *dev.Device) { b, _ := super.Put(super.Super{Epoch: 6, Foot: five.Foot}); d.Write(1, b) },
+		"a torn super":         func(d *dev.Device) { d.Write(1, make([]byte, 64)) },
+		"a torn foot":          func(d *dev.Device) { d.Write(7, make([]byte, 64)) },
+		"a super in the other": func(d *dev.Device) { b, _ := super.Put(super.Super{Epoch: 6, Foot: five.Foot}); d.Write(1, b) },
+		"a younger one in the other": func(d *dev.Device) {
+			b, _ := d.Read(0)
+			lay(t, d, feet(6, 6), 6, 7)
+			six, _ := d.Read(0)
+			d.Write(0, b)
+			d.Write(1, six)
+		},
+		"a foot in the other's block": func(d *dev.Device) {
+			b, _ := foot.Put(feet(4, 6))
+			page.Write(d, 1, b)
+			super.Write(d, super.Super{Epoch: 4, Foot: ext.Ext{At: 1, N: 1}})
+			lay(t, d, feet(4, 5), 4, 3)
+		},
 		"a foot of another epoch": func(d *dev.Device) { lay(t, d, feet(7, 6), 5, 7) },
 		"a foot that is none":     func(d *dev.Device) { page.Write(d, 7, []byte{5, 0}) },
 		"a foot with more bytes":  func(d *dev.Device) { b, _ := foot.Put(feet(5, 6)); page.Write(d, 7, append(b, 0)) },
