@@ -111,6 +111,18 @@ func TestMayOfKids(t *testing.T) {
 	}
 }
 
+func TestMayOfTheDeepest(t *testing.T) {
+	s, all := tells(t)
+	for a, p := range all {
+		for range 7 {
+			p = P{Op: pred.Not, Kids: []P{p}}
+		}
+		if got, want := skip.May(p, s), a&u|a&f<<1|a&tr>>1; got != want {
+			t.Errorf("P2101: May of seven Nots of %d is %d, want %d", a, got, want)
+		}
+	}
+}
+
 func TestMayOfNoRows(t *testing.T) {
 	none := []stat.Stat{{Kind: val.Int}}
 	for _, p := range []P{{Op: pred.All}, {Op: pred.IsNull}, {Op: pred.Eq, V: number(0)}, {Op: pred.Not, Kids: []P{{Op: pred.All}}}, {Op: pred.Or, Kids: []P{{Op: pred.All}, {Op: pred.All}}}} {
